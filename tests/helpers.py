@@ -52,3 +52,30 @@ def settled_office():
     office.found(3)
     office.settle(0, 2)
     return office
+
+# What is handed in as a box and is none, whatever the total.
+NO_BOXES = [
+    ((), (), None),
+    ((), (1,), None),
+    ((1,), (), None),
+    ((0,), (1, 1), None),
+    ((0, 0), (1,), None),
+    ((0, 0, 0), (1, 1), None),
+    ((0, 0), (1, 1, 1), None),
+    ((0, 0, 0, 0), (1, 1, 1, 1), None),
+    ((0,) * 4, (1,) * 3, None),
+    ((0,) * 1000, (0,) * 1000, None),
+    ((-1,), (1,), None),
+    ((0, -1), (1, 1), None),
+    ((0, 0, -SIXTY), (1, 1, 1), None),
+    ((2,), (1,), None),
+    ((0, 2, 0), (1, 1, 1), None),
+    ((SIXTY,), (7,), None),
+    ((0,), (-1,), None),
+    ((-2,), (-1,), None),
+    ((0,), (8,), None),
+    ((8,), (8,), None),
+    ((0, 0, 0), (7, 7, 8), None),
+    ((0, 0), (SIXTY, 1), None),
+    ((SIXTY,), (SIXTY,), None),
+]

@@ -12,6 +12,10 @@ FUNCTIONS = {
         "bounds": ["office", "counted"], "worlds": ["office", "counted"],
         "sure": ["office", "number", "counted"],
     },
+    "boxes.py": {"tight": ["box"], "is_settled": ["box"], "behind": ["box", "look"]},
+    "looks.py": {"least": ["box"], "walked": ["plan", "world"]},
+    "papers.py": {"paper": ["box"], "shows": ["box", "depth", "rows"]},
+    "books.py": {"played": ["top", "desks", "book"]},
 }
 METHODS = {
     "office.py": {"Office": {
